@@ -1,0 +1,1 @@
+"""Bothwire: circuits whose wires carry nought and one at once, reckoned exactly."""

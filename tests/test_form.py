@@ -1,0 +1,80 @@
+"""The form of the program: where its names are defined, with which arguments, and how large it is."""
+
+import ast
+import importlib
+import inspect
+import pathlib
+import unittest
+
+PACKAGE = pathlib.Path(__file__).resolve().parent.parent / "bothwire"
+
+INTERFACE = {
+    "numbers": {
+        "lowest": 5, "is_eighth": 1, "plus": 2, "times": 2, "mirror": 1, "turned": 2, "over_root": 2,
+    },
+    "lengths": {"square": 1, "length_sum": 1, "is_less": 2, "length_text": 1},
+}
+
+
+class Interface(unittest.TestCase):
+    def test_each_name_is_defined_in_its_own_file_with_its_arguments(self):
+        for file_name, names in INTERFACE.items():
+            module = importlib.import_module("bothwire." + file_name)
+            for name, many in names.items():
+                with self.subTest(file=file_name, name=name):
+                    function = getattr(module, name)
+                    self.assertTrue(inspect.isfunction(function))
+                    self.assertEqual(function.__module__, module.__name__)
+                    arguments = inspect.signature(function).parameters.values()
+                    self.assertEqual(len(arguments), many)
+                    for argument in arguments:
+                        self.assertIs(argument.default, argument.empty)
+
+
+class Form(unittest.TestCase):
+    def files(self):
+        found = sorted(PACKAGE.rglob("*.py"))
+        self.assertIn(PACKAGE / "__init__.py", found)
+        return found
+
+    def test_the_package_has_plain_files_alone(self):
+        for path in PACKAGE.rglob("*"):
+            if "__pycache__" not in path.parts:
+                self.assertEqual(path.suffix, ".py", path)
+
+    def test_sizes_and_signs(self):
+        for path in self.files():
+            text = path.read_bytes().decode("ascii")
+            rows = text.split("\n")
+            self.assertLessEqual(len(rows), 399, path)
+            for number, row in enumerate(rows, 1):
+                self.assertLessEqual(len(row), 120, (path, number))
+                self.assertTrue(all(" " <= sign <= "~" for sign in row), (path, number))
+
+    def test_functions_are_small(self):
+        for path in self.files():
+            for node in ast.walk(ast.parse(path.read_text())):
+                if isinstance(node, ast.FunctionDef):
+                    self.assertLessEqual(node.end_lineno - node.lineno + 1, 40, (path, node.name))
+
+    def test_files_import_from_the_package_or_the_allowed_library(self):
+        allowed = ("heapq", "math", "itertools", "collections", "__future__")
+        for path in self.files():
+            tree = ast.parse(path.read_text())
+            for node in ast.walk(tree):
+                self.assertNotIsInstance(node, ast.Import, path)
+                if isinstance(node, ast.ImportFrom):
+                    self.assertIn(node, tree.body, path)
+                    self.assertEqual(node.level, 0, path)
+                    self.assertTrue(node.module.startswith("bothwire.") or node.module in allowed, (path, node.module))
+
+    def test_no_points_and_no_fractions(self):
+        for path in self.files():
+            for node in ast.walk(ast.parse(path.read_text())):
+                self.assertNotIsInstance(node, (ast.Div, ast.Global, ast.AsyncFunctionDef), path)
+                if isinstance(node, ast.Constant):
+                    self.assertNotIsInstance(node.value, (float, complex), path)
+
+
+if __name__ == "__main__":
+    unittest.main()
