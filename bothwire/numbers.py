@@ -6,6 +6,9 @@ root of two. Each such number is told with the least k that it can have.
 
 from bothwire.errors import NoNumber
 
+NOUGHT = (0, 0, 0, 0, 0)
+ONE = (1, 0, 0, 0, 0)
+
 
 def is_number(thing):
     """Whether a thing is a whole number; True and False are none."""

@@ -13,10 +13,39 @@ INTERFACE = {
         "lowest": 5, "is_eighth": 1, "plus": 2, "times": 2, "mirror": 1, "turned": 2, "over_root": 2,
     },
     "lengths": {"square": 1, "length_sum": 1, "is_less": 2, "length_text": 1},
+    "states": {"begun": 2},
+    "gates": {"gate_of": 2},
+}
+
+GATE_METHODS = {"word": 0, "wires": 0, "text": 0, "back": 0, "on": 1, "is_bit": 0, "is_quarter": 0}
+
+# By class under Gate: of how many wires it is made.
+GATES = {"X": 1, "Y": 1, "Z": 1, "S": 1, "R": 1, "T": 1, "U": 1, "H": 1, "Cx": 2, "Cz": 2, "Swap": 2, "Ccx": 3}
+
+# By file and class: how many arguments it is made of, and its methods with theirs.
+CLASSES = {
+    "states": {
+        "State": (1, {"many": 0, "eighths": 0, "length": 0, "inside": 1, "turn_to": 1}),
+    },
+    "gates": {
+        "Gate": (0, GATE_METHODS),
+    },
+    "circuits": {
+        "Reading": (2, {"text": 0}),
+        "Asking": (3, {"text": 0}),
+        "Circuit": (2, {"many": 0, "rows": 0, "told": 0, "bits": 0, "is_plain": 0, "back": 0, "then": 1}),
+    },
 }
 
 
 class Interface(unittest.TestCase):
+    def assert_arguments(self, thing, many):
+        """The thing is called with just so many arguments."""
+        arguments = inspect.signature(thing).parameters.values()
+        self.assertEqual(len(arguments), many)
+        for argument in arguments:
+            self.assertIs(argument.default, argument.empty)
+
     def test_each_name_is_defined_in_its_own_file_with_its_arguments(self):
         for file_name, names in INTERFACE.items():
             module = importlib.import_module("bothwire." + file_name)
@@ -25,10 +54,32 @@ class Interface(unittest.TestCase):
                     function = getattr(module, name)
                     self.assertTrue(inspect.isfunction(function))
                     self.assertEqual(function.__module__, module.__name__)
-                    arguments = inspect.signature(function).parameters.values()
-                    self.assertEqual(len(arguments), many)
-                    for argument in arguments:
-                        self.assertIs(argument.default, argument.empty)
+                    self.assert_arguments(function, many)
+
+    def test_each_class_is_defined_in_its_own_file_with_its_methods(self):
+        for file_name, names in CLASSES.items():
+            module = importlib.import_module("bothwire." + file_name)
+            for name, (many, methods) in names.items():
+                made = getattr(module, name)
+                self.assertTrue(inspect.isclass(made))
+                self.assertEqual(made.__module__, module.__name__)
+                # Gate is made by the classes under it alone.
+                if name != "Gate":
+                    self.assert_arguments(made, many)
+                for method, count in methods.items():
+                    with self.subTest(file=file_name, name=name, method=method):
+                        self.assertIn(method, vars(made))
+                        self.assert_arguments(vars(made)[method], count + 1)
+
+    def test_each_word_has_a_class_under_gate(self):
+        module = importlib.import_module("bothwire.gates")
+        for name, many in GATES.items():
+            made = getattr(module, name)
+            self.assertTrue(issubclass(made, module.Gate))
+            self.assertEqual(made.__module__, module.__name__)
+            self.assert_arguments(made, many)
+            for method, count in GATE_METHODS.items():
+                self.assert_arguments(getattr(made, method), count + 1)
 
 
 class Form(unittest.TestCase):
