@@ -12,6 +12,7 @@ from bothwire.states import State
 from tests.oracle import NOUGHT, ONE, eighth_told, product_worth, some_eighths, sum_worth, worth, worth_over_root
 
 NO_WORTH = (0, 0, 0, 0)
+ONE_WORTH = (1, 0, 0, 0)
 
 # The table of promise 7: by word and the bits at its wires the bits that come in their place, how
 # many eighths of a turn, and how many roots below.
@@ -43,12 +44,6 @@ BACK_WORDS = {
     "cx": "cx", "cz": "cz", "swap": "swap", "ccx": "ccx",
 }
 
-W_WORTHS = (
-    (1, 0, 0, 0), (0, 1, 0, 0), (0, 0, 1, 0), (0, 0, 0, 1),
-    (-1, 0, 0, 0), (0, -1, 0, 0), (0, 0, -1, 0), (0, 0, 0, -1),
-)
-
-
 def rows_of(many):
     """The rows of so many wires as texts, in order."""
     return ["".join(bits) for bits in itertools.product("01", repeat=many)]
@@ -64,6 +59,13 @@ def state_worths(state):
     return [worth(one) for one in state.eighths()]
 
 
+def turned_worth(own, turn):
+    """A worth times w, so often: what comes to w ** 4 has come back with the other sign."""
+    for _ in range(turn):
+        own = (-own[3], own[0], own[1], own[2])
+    return own
+
+
 def gate_worths(word, wires, worths):
     """What comes of a gate, row by row, by the table."""
     rows = rows_of(many_of(worths))
@@ -75,7 +77,9 @@ def gate_worths(word, wires, worths):
             to = list(row)
             for wire, bit in zip(wires, others):
                 to[wire] = bit
-            part = worth_over_root(product_worth(own, W_WORTHS[turn]), roots)
+            part = turned_worth(own, turn)
+            if roots > 0:
+                part = worth_over_root(part, roots)
             found["".join(to)] = sum_worth(found["".join(to)], part)
     return [found[row] for row in rows]
 

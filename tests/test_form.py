@@ -15,6 +15,10 @@ INTERFACE = {
     "lengths": {"square": 1, "length_sum": 1, "is_less": 2, "length_text": 1},
     "states": {"begun": 2},
     "gates": {"gate_of": 2},
+    "texts": {"read": 1, "written": 1},
+    "runs": {"run": 2, "columns": 1},
+    "signs": {"is_sign_row": 1, "done": 2, "goes_with": 2, "product": 2},
+    "signtables": {"plain_table": 1},
 }
 
 GATE_METHODS = {"word": 0, "wires": 0, "text": 0, "back": 0, "on": 1, "is_bit": 0, "is_quarter": 0}
@@ -34,6 +38,9 @@ CLASSES = {
         "Reading": (2, {"text": 0}),
         "Asking": (3, {"text": 0}),
         "Circuit": (2, {"many": 0, "rows": 0, "told": 0, "bits": 0, "is_plain": 0, "back": 0, "then": 1}),
+    },
+    "signtables": {
+        "SignTable": (1, {"many": 0, "rows": 0, "on": 1, "told": 1, "read": 2, "holds": 1, "state": 0}),
     },
 }
 
