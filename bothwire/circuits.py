@@ -104,8 +104,7 @@ def _can_read(row, many, bits):
 
 def _can_ask(row, many, bits):
     """Whether an asking gate can stand behind the readings of these bits."""
-    # What is no text may be of a kind that can't be looked for, so the name is asked for first.
-    return is_name(row.bit) and row.bit in bits and is_within(row.value, 0, 1) and _is_gate(row.gate, many)
+    return row.bit in bits and is_within(row.value, 0, 1) and _is_gate(row.gate, many)
 
 
 def _is_gate(thing, many):

@@ -14,7 +14,7 @@ from bothwire.states import State, begun
 from tests.oracle import NOUGHT, ONE
 from tests.signoracle import done_worths, each_sign_row, holding_rows, told_rows
 from tests.stateoracle import (
-    NO_WORTH, QUARTER_WORDS,
+    NO_WORTH, QUARTER_WORDS, WIRES_OF,
     each_gate, gate_worths, mixed_state, nought_state, read_worths, row_state, small_state, state_worths,
     turned_worth,
 )
@@ -256,12 +256,15 @@ class AskersOwn(unittest.TestCase):
 
 
 def some_table(chance, many):
-    """A table behind some gates, and the worths of its state."""
+    """A table behind some gates, many of them h, and the worths of its state."""
     table = plain_table(many)
     worths = state_worths(begun(many, 0))
-    gates = each_gate(many, QUARTER_WORDS)
-    for _ in range(4 * many + 2):
-        word, wires = chance.choice(gates)
+    words = [word for word in QUARTER_WORDS if WIRES_OF[word] <= many] + ["h", "h", "s"]
+    if many > 1:
+        words += ["cx", "cx", "cz"]
+    for _ in range(6 * many + 2):
+        word = chance.choice(words)
+        wires = tuple(chance.sample(range(many), WIRES_OF[word]))
         table = table.on(gate_of(word, wires))
         worths = gate_worths(word, wires, worths)
     return table, worths
@@ -315,13 +318,29 @@ class Gates(TableTest):
 
     def test_each_gate_on_tables_of_more_wires(self):
         chance = random.Random(710)
-        for many in (3, 4, 5):
-            for _ in range(3):
+        for many, count in ((3, 24), (4, 8), (5, 4)):
+            for _ in range(count):
                 table, worths = some_table(chance, many)
                 for word, wires in each_gate(many, QUARTER_WORDS):
                     behind = table.on(gate_of(word, wires))
                     self.assertEqual(behind.many(), many)
                     self.assert_told_rows(behind.rows(), gate_worths(word, wires, worths))
+
+    def test_each_gate_on_whatever_a_told_row_has_at_its_wires(self):
+        # A row with y at both wires of a gate is told of few tables: one is made by hand.
+        chance = random.Random(712)
+        seen = {word: set() for word in ("cx", "cz", "swap")}
+        by_hand = SignTable(sign_rows("+xzx -iyy -zzz"))
+        self.assertEqual(by_hand.rows(), sign_rows("+xzx -iyy -zzz"))
+        tables = [(by_hand, state_worths(by_hand.state()))] + [some_table(chance, 3) for _ in range(60)]
+        for table, worths in tables:
+            for word, wires in each_gate(3, tuple(seen)):
+                new = {tuple((row[1][wire], row[2][wire]) for wire in wires) for row in table.rows()} - seen[word]
+                if new:
+                    seen[word] |= new
+                    self.assert_table(table, worths)
+                    self.assert_told_rows(table.on(gate_of(word, wires)).rows(), gate_worths(word, wires, worths))
+        self.assertEqual([len(bits) for bits in seen.values()], [16, 16, 16])
 
     def test_against_the_state_of_the_table(self):
         chance = random.Random(711)
@@ -360,6 +379,10 @@ class Readings(TableTest):
         # Neither row does z at the first wire alone; their product does.
         both = SignTable(sign_rows("-zz +iz"))
         self.assertEqual((both.told(0), both.told(1)), (1, 0))
+        # Two rows do x at the last wire: their product goes with reading it.
+        two = SignTable(sign_rows("+xix -ixx +zzz"))
+        self.assertEqual(two.read(2, 1).rows(), sign_rows("-xxi -zzi -iiz"))
+        self.assertEqual(two.read(2, 0).rows(), sign_rows("-xxi +zzi +iiz"))
         mixed = SignTable(sign_rows("-xzi +zxi -iiz"))
         self.assertEqual([mixed.told(wire) for wire in range(3)], [None, None, 1])
         self.assertEqual(mixed.read(0, 1).rows(), sign_rows("-ixi -zii -iiz"))
