@@ -108,8 +108,9 @@ class Sheet:
         if words[0] == "undo":
             gates = [gate.back() for gate in reversed(gates)]
         here = self._here()
-        # Circuits that do one another grow beyond all bounds, and one row too many is enough to be refused.
-        here.placed = (here.placed + gates)[:MOST_ROWS + 1]
+        # Circuits that do one another grow beyond all bounds, and one row too many is enough to be
+        # refused. Only what is put in place now is left out: rows ahead may be readings that are asked.
+        here.placed.extend(gates[:max(0, MOST_ROWS + 1 - len(here.placed))])
 
     def _take_reading(self, words):
         self._need(self._inner is None and len(words) == 3)

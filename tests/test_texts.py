@@ -232,6 +232,30 @@ class HowMany(ReadTest):
         with self.assertRaises(TooMany):
             read(text_of(["wires 1"] + five + ["read 0 f"]))
 
+    def test_readings_behind_sixty_rows_are_asked(self):
+        for word in ("do", "undo"):
+            for gates in (1, 7, 20, 30, 40, 59, 60, 61):
+                for count in (1, 2, 3, 5, 6):
+                    rows = ["wires 2", "circuit a 1"] + ["x 0"] * gates + ["end"] + [word + " a 1"] * 60
+                    for bit in "bcdefg"[:count]:
+                        rows += ["read 0 " + bit, word + " a 0", word + " a 1"]
+                    asking = ["if " + bit + " 1 x 1" for bit in "bcdefg"[:count]]
+                    with self.assertRaises(TooMany):
+                        read(text_of(rows + asking))
+                    with self.assertRaises(TooMany):
+                        read(text_of(rows + asking + [word + " a 1"] + asking))
+                    # A bit that was never read, and one that is read twice, are refused as ever.
+                    self.assert_refused(text_of(rows + asking + ["if z 1 x 1"]), len(rows + asking) + 1)
+                    self.assert_refused(text_of(rows + asking + ["read 1 b"]), len(rows + asking) + 1)
+
+    def test_just_sixty_rows_with_readings_among_them(self):
+        rows = ["wires 1", "circuit a 1"] + ["x 0"] * 28 + ["end", "do a 0", "read 0 b", "undo a 0", "if b 1 x 0"]
+        told = ["x 0"] * 28 + ["read 0 b"] + ["x 0"] * 28 + ["if b 1 x 0"]
+        self.assert_read(text_of(rows + ["x 0", "x 0"]), 1, told + ["x 0", "x 0"])
+        for row in ("x 0", "do a 0", "read 0 c", "if b 0 x 0"):
+            with self.assertRaises(TooMany):
+                read(text_of(rows + ["x 0", "x 0", row]))
+
     def test_only_where_no_row_is_wrong(self):
         many = ["wires 1"] + ["x 0"] * 61
         self.assert_refused(text_of(many + ["x 1"]), 63)
