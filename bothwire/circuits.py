@@ -81,6 +81,11 @@ class Circuit:
         return Circuit(self._many, self._rows + other.rows())
 
 
+def is_plain_circuit(thing):
+    """Whether a thing is a circuit of gates alone."""
+    return isinstance(thing, Circuit) and thing.is_plain()
+
+
 def _bits_read(many, rows):
     """The bits that the rows read, in order; NoCircuit where a thing is no row, or can't stand there."""
     bits = []

@@ -1,6 +1,6 @@
 """Runs: what a circuit makes of a state, a branch for each way in which its readings go."""
 
-from bothwire.circuits import Asking, Circuit, Reading
+from bothwire.circuits import Asking, Circuit, Reading, is_plain_circuit
 from bothwire.errors import NoCircuit, NoState
 from bothwire.numbers import NOUGHT
 from bothwire.rowbits import bits_of
@@ -26,7 +26,7 @@ def run(circuit, state):
 
 def columns(circuit):
     """What a plain circuit makes of the states at each row, in order."""
-    if not isinstance(circuit, Circuit) or not circuit.is_plain():
+    if not is_plain_circuit(circuit):
         raise NoCircuit("columns are told of plain circuits")
     many = circuit.many()
     return [run(circuit, begun(many, row))[0][1] for row in range(1 << many)]

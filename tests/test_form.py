@@ -19,6 +19,9 @@ INTERFACE = {
     "runs": {"run": 2, "columns": 1},
     "signs": {"is_sign_row": 1, "done": 2, "goes_with": 2, "product": 2},
     "signtables": {"plain_table": 1},
+    "tableruns": {"table_run": 1},
+    "alike": {"held": 2, "input_of": 2},
+    "shorter": {"can_step": 2, "stepped": 2, "shortened": 1},
 }
 
 GATE_METHODS = {"word": 0, "wires": 0, "text": 0, "back": 0, "on": 1, "is_bit": 0, "is_quarter": 0}

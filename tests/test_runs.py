@@ -6,41 +6,18 @@ from fractions import Fraction
 
 from bothwire.circuits import Asking, Circuit, Reading
 from bothwire.errors import NoCircuit, NoState
-from bothwire.gates import Ccx, Cx, H, S, T, X, Y, Z, gate_of
+from bothwire.gates import Ccx, Cx, H, S, T, X, Y, Z
 from bothwire.lengths import length_sum
 from bothwire.numbers import over_root, plus, times, turned
 from bothwire.runs import columns, run
 from bothwire.states import State, begun
 from bothwire.texts import read
+from tests.draws import mixed_circuit, plain_circuit
 from tests.oracle import NOUGHT, ONE, is_told_rightly, length_worth
 from tests.stateoracle import (
-    NO_WORTH, ONE_WORTH, each_gate, length_parts, mixed_state, nought_state, row_state, run_worths, small_state, state_worths,
+    NO_WORTH, ONE_WORTH, length_parts, mixed_state, nought_state, row_state, run_worths, small_state, state_worths,
 )
-from tests.things import NO_STATES, Odd
-
-NO_CIRCUITS = (None, 1, True, "wires 1\n", [], [X(0)], (), {}, X(0), Reading(0, "a"), Odd(), Circuit)
-
-
-def mixed_circuit(chance, many, rows, readings):
-    """A circuit of so many wires, rows and readings, the other rows gates and asking gates."""
-    gates = each_gate(many)
-    places = set(chance.sample(range(rows), readings))
-    found, bits = [], []
-    for at in range(rows):
-        gate = gate_of(*chance.choice(gates))
-        if at in places:
-            bits.append(chance.choice("abc") + "rstuv"[len(bits)])
-            found.append(Reading(chance.randrange(many), bits[-1]))
-        elif bits and chance.random() < 0.4:
-            found.append(Asking(chance.choice(bits), chance.randrange(2), gate))
-        else:
-            found.append(gate)
-    return Circuit(many, found)
-
-
-def plain_circuit(chance, many, rows):
-    """A circuit of gates alone."""
-    return mixed_circuit(chance, many, rows, 0)
+from tests.things import NO_CIRCUITS, NO_STATES
 
 
 class RunTest(unittest.TestCase):

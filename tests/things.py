@@ -1,5 +1,8 @@
 """Things of other kinds than asked for, for the tests of what is refused."""
 
+from bothwire.circuits import Circuit, Reading
+from bothwire.gates import X
+
 
 class Odd:
     """A thing of no kind that the program has."""
@@ -13,3 +16,5 @@ NO_NAMES = (
 )
 
 NO_STATES = (None, 1, True, "state", (), [], [(1, 0, 0, 0, 0), (0, 0, 0, 0, 0)], {}, Odd(), Odd)
+
+NO_CIRCUITS = (None, 1, True, "wires 1\n", [], [X(0)], (), {}, X(0), Reading(0, "a"), Odd(), Circuit)
