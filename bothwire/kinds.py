@@ -1,4 +1,4 @@
-"""Kinds of things that are handed in: numbers within bounds, and names."""
+"""Kinds of things that are handed in: numbers within bounds, names, rows of words."""
 
 from bothwire.numbers import is_number
 
@@ -15,3 +15,8 @@ def is_name(thing):
     if not isinstance(thing, str) or not 1 <= len(thing) <= 8:
         return False
     return all(["a" <= sign <= "z" for sign in thing])
+
+
+def words_of(row):
+    """The words of a row, parted by one blank or more, a list."""
+    return [word for word in row.split(" ") if word != ""]

@@ -1,6 +1,6 @@
 """Lists of sign rows of which each two go together: their products, and which of these are told of them."""
 
-from bothwire.signs import goes_with, is_sign_row, product
+from bothwire.signs import done, goes_with, is_sign_row, product
 
 
 def bits_in_order(row):
@@ -14,14 +14,20 @@ def does_nothing(row):
     return 1 not in bits_in_order(row)
 
 
-def are_alike_wide(rows, many):
-    """Whether all things in a list are sign rows of so many wires."""
-    return all([is_sign_row(row) and len(row[1]) == many for row in rows])
+def told_of(rows, many):
+    """The rows that are told of a list of sign rows of so many wires, as many as these.
+
+    None where they are none such, do not go together, or one, or a product of some, does nothing.
+    """
+    if not _are_alike_wide(rows, many) or not _go_together(rows):
+        return None
+    told = _reduced(rows)
+    return None if does_nothing(told[-1]) else told
 
 
-def go_together(rows):
-    """Whether each two of these sign rows go together."""
-    return all([goes_with(one, other) for at, one in enumerate(rows) for other in rows[:at]])
+def all_hold(rows, state):
+    """Whether all these sign rows hold a state of as many wires."""
+    return all([done(row, state).eighths() == state.eighths() for row in rows])
 
 
 def together(one, other):
@@ -30,7 +36,24 @@ def together(one, other):
     return (m // 2, xs, zs)
 
 
-def reduced(rows):
+def left_over(rows, row):
+    """What is left of a sign row that goes with all told rows, once these have taken out all they can."""
+    for lead in rows:
+        row = _without(row, lead, bits_in_order(lead).index(1))
+    return row
+
+
+def _are_alike_wide(rows, many):
+    """Whether all things in a list are sign rows of so many wires."""
+    return all([is_sign_row(row) and len(row[1]) == many for row in rows])
+
+
+def _go_together(rows):
+    """Whether each two of these sign rows go together."""
+    return all([goes_with(one, other) for at, one in enumerate(rows) for other in rows[:at]])
+
+
+def _reduced(rows):
     """As many rows with the same products, first those that are told of them.
 
     By the bits in order the first one that is 1 comes farther behind from row to row, and each
@@ -46,13 +69,6 @@ def reduced(rows):
             found.insert(at, lead)
             at += 1
     return found
-
-
-def left_over(rows, row):
-    """What is left of a sign row that goes with all told rows, once these have taken out all they can."""
-    for lead in rows:
-        row = _without(row, lead, bits_in_order(lead).index(1))
-    return row
 
 
 def _without(row, lead, place):

@@ -6,7 +6,7 @@ from bothwire.kinds import MOST_WIRES, is_within
 from bothwire.numbers import over_root, plus
 from bothwire.rowbits import bits_of
 from bothwire.signmoves import moved
-from bothwire.signrows import are_alike_wide, does_nothing, go_together, left_over, reduced, together
+from bothwire.signrows import all_hold, left_over, together, told_of
 from bothwire.signs import done
 from bothwire.states import State, begun, is_state
 
@@ -17,11 +17,9 @@ class SignTable:
     def __init__(self, rows):
         if not isinstance(rows, list) or not 1 <= len(rows) <= MOST_WIRES:
             raise NoTable("a sign table has a list of sign rows, as many as wires")
-        if not are_alike_wide(rows, len(rows)) or not go_together(rows):
-            raise NoTable("the rows are no sign rows of as many wires that go together")
-        told = reduced(rows)
-        if does_nothing(told[-1]):
-            raise NoTable("a row, or a product of some, does nothing but perhaps turn")
+        told = told_of(rows, len(rows))
+        if told is None:
+            raise NoTable("the rows go together, none nor a product of some does nothing")
         self._rows = told
 
     def many(self):
@@ -65,7 +63,7 @@ class SignTable:
         """Whether all rows hold a state; NoState."""
         if not is_state(state, self.many()):
             raise NoState("a table holds states of as many wires")
-        return all([done(row, state).eighths() == state.eighths() for row in self._rows])
+        return all_hold(self._rows, state)
 
     def state(self):
         """The state that all rows hold, of length 1, its first eighth 1 by roots."""

@@ -3,7 +3,7 @@
 from bothwire.circuits import MOST_ROWS, Asking, Circuit, Reading
 from bothwire.errors import NoCircuit, NoGate, NoText, NoWire
 from bothwire.gates import gate_of
-from bothwire.kinds import MOST_WIRES, is_name
+from bothwire.kinds import MOST_WIRES, is_name, words_of
 
 MOST_SIGNS = 4000
 
@@ -31,7 +31,7 @@ class Sheet:
     def take(self, row):
         """Read the next row; NoText where it isn't so or can't stand here."""
         self._at += 1
-        words = [word for word in row.partition("#")[0].split(" ") if word != ""]
+        words = words_of(row.partition("#")[0])
         if len(words) == 0:
             return
         if self._main is None:

@@ -22,6 +22,8 @@ INTERFACE = {
     "tableruns": {"table_run": 1},
     "alike": {"held": 2, "input_of": 2},
     "shorter": {"can_step": 2, "stepped": 2, "shortened": 1},
+    "turnings": {"turning_of": 1, "turning_circuit": 1},
+    "mends": {"mends": 2, "errors": 2, "mended": 3},
 }
 
 GATE_METHODS = {"word": 0, "wires": 0, "text": 0, "back": 0, "on": 1, "is_bit": 0, "is_quarter": 0}
@@ -44,6 +46,12 @@ CLASSES = {
     },
     "signtables": {
         "SignTable": (1, {"many": 0, "rows": 0, "on": 1, "told": 1, "read": 2, "holds": 1, "state": 0}),
+    },
+    "codes": {
+        "Code": (1, {"many": 0, "rows": 0, "signs": 1, "same": 2, "far": 0, "holds": 1}),
+    },
+    "desk": {
+        "Desk": (0, {"say": 1, "play": 1}),
     },
 }
 
